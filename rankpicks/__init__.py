@@ -1,0 +1,1 @@
+"""What ranks of ranks say: import from the modules of this package."""
