@@ -33,7 +33,7 @@ class Leaf(Tree):
         return 1
 
     def __contains__(self, name):
-        return is_name(name) and name == self._name
+        return name == self._name
 
     def __eq__(self, other):
         return isinstance(other, Leaf) and self._name == other._name
@@ -112,7 +112,7 @@ class Group(Tree):
         return len(self._names)
 
     def __contains__(self, name):
-        return is_name(name) and name in self._names
+        return name in self._names
 
     def __eq__(self, other):
         return isinstance(other, Group) and self._ranks == other._ranks and self._parts == other._parts
@@ -203,7 +203,7 @@ def _are_leaves(tree, names):
 
 
 def _is_renaming(tree, pairs):
-    if not are_name_pairs(pairs) or not all([old in tree and is_name(new) for old, new in pairs]):
+    if not are_name_pairs(pairs) or not all([old in tree for old, new in pairs]):
         return False
     # The names are compared only when all are in place, so that two leaves may exchange theirs.
     table = dict(pairs)

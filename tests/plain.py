@@ -123,7 +123,7 @@ def deep_list():
 
 
 def values():
-    """Values of every kind, no two of which are alike."""
+    """Values of every kind, right ones and wrong ones."""
     numbers = [None, True, False, 0, 1, -1, 2, 10 ** 40, -(10 ** 40)]
     texts = ["", "a", "b", "abcdefgh", "abcdefghi", "A", "aB", "a1", "1", "a b", " a", "a\n", "\n", "_", "{", "`"]
     lists = [[], ["a"], ["a", "a"], [1], [True], [None], ["A"], [["a"]], [("a",)], [("a", 1)], [["a", 1]], deep_list()]
