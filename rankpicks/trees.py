@@ -177,6 +177,14 @@ def is_end(tree, j):
     return is_whole(j) and 1 <= j <= tree.width
 
 
+def check_end(tree, j):
+    """Raise an error unless the values are a tree and the number of one of its ends."""
+    if not is_tree(tree):
+        raise InvalidTree(tree)
+    if not is_end(tree, j):
+        raise InvalidNumber(j)
+
+
 def _are_parts(value):
     if not isinstance(value, list) or len(value) == 0:
         return False

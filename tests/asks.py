@@ -1,5 +1,6 @@
-"""How the tests ask for an error."""
+"""How the tests ask for an error, and for answers in time."""
 
+import time
 import unittest
 
 
@@ -11,3 +12,13 @@ class Asking(unittest.TestCase):
         self.assertIs(type(caught.exception), error)
         [held] = vars(caught.exception).values()
         self.assertIs(held, field)
+
+
+class InTime(Asking):
+    """Tests that take less than a minute each."""
+
+    def setUp(self):
+        self.begun = time.monotonic()
+
+    def tearDown(self):
+        self.assertLess(time.monotonic() - self.begun, 60)

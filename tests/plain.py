@@ -87,6 +87,16 @@ def small_trees(most):
     return [plain for many in range(1, most + 1) for plain in plain_trees(tuple("bacd"[:many]), 2)]
 
 
+def some_trees():
+    """All small trees up to four leaves, and some with five leaves or three levels of groups."""
+    return small_trees(4) + plain_trees(tuple("dbeac"), 2)[::120] + plain_trees(tuple("bacd"), 3)[::250]
+
+
+def plain_passes(plain, low):
+    """How many ends are low: those that are 0 if the worths of the low leaves are, and all others 1."""
+    return plain_ends(plain, {name: 0 if name in low else 1 for name in plain_names(plain)}).count(0)
+
+
 def subsets(names):
     return [list(chosen) for many in range(len(names) + 1) for chosen in combinations(names, many)]
 
@@ -96,6 +106,11 @@ def chain(plain, levels):
     for _ in range(levels):
         plain = (tuple(range(1, plain_width(plain) + 1)), (plain,))
     return plain
+
+
+def nine_tree():
+    """The middle one of three middle ones."""
+    return ((2,), tuple(((2,), tuple(row)) for row in ("abc", "def", "ghi")))
 
 
 def full_names():

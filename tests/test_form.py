@@ -28,6 +28,11 @@ PROPERTIES = {"Leaf": ["name", "width"], "Group": ["ranks", "parts", "intake", "
 FUNCTIONS = {
     "rankpicks.lots": {"lot_of": "(names)", "ends_of": "(tree, lot)", "end_of": "(tree, lot, j=1)",
                        "outs_of": "(tree, lot)"},
+    "rankpicks.counts": {"least_rank": "(tree, j=1)", "greatest_rank": "(tree, j=1)", "low_names": "(tree, j=1)",
+                         "high_names": "(tree, j=1)", "count_table": "(tree)", "is_count_table": "(tree, claim)"},
+    "rankpicks.places": {"rank_span": "(tree, j=1)", "rank_in": "(tree, lot, j=1)", "order_at": "(tree, rank, j=1)"},
+    "rankpicks.chances": {"set_counts": "(tree, j=1)", "order_counts": "(tree, j=1)", "mean_rank": "(tree, j=1)"},
+    "rankpicks.leaps": {"leap_of": "(tree, name, j=1)", "leap_lots": "(tree, name, j=1)"},
 }
 
 ALLOWED = """len range enumerate zip min max sum abs sorted reversed int str bool list tuple dict set isinstance ord repr
@@ -93,7 +98,11 @@ class Form(unittest.TestCase):
                 where = (name, getattr(node, "lineno", 0))
                 self.assertNotIsInstance(node, barred, where)
                 if isinstance(node, ast.ImportFrom):
-                    self.assertTrue(node.level == 0 and node.module.startswith("rankpicks."), where)
+                    self.assertEqual(node.level, 0, where)
+                    if node.module == "math":
+                        self.assertLessEqual({found.name for found in node.names}, {"factorial", "gcd"}, where)
+                    else:
+                        self.assertTrue(node.module.startswith("rankpicks."), where)
                 if isinstance(node, ast.Name) and hasattr(builtins, node.id):
                     self.assertIn(node.id, ALLOWED, where)
                 if isinstance(node, ast.Constant):
@@ -105,18 +114,21 @@ class Form(unittest.TestCase):
 
 
 class Readme(unittest.TestCase):
-    def test_the_lines_of_the_example_say_what_they_give(self):
+    def test_the_lines_of_the_examples_say_what_they_give(self):
         with open(os.path.join(TOP, "README.md"), encoding="utf-8") as file:
-            code = file.read().split("```python\n")[1].split("```")[0]
-        names, shown = {}, 0
-        for line in code.split("\n"):
-            call, _, told = line.partition("  # ")
-            if told:
-                self.assertEqual(repr(eval(call, names)), told)
-                shown += 1
-            else:
-                exec(call, names)
-        self.assertEqual(shown, 6)
+            codes = [rest.split("```")[0] for rest in file.read().split("```python\n")[1:]]
+        shown = []
+        for code in codes:
+            names, told_here = {}, 0
+            for line in code.split("\n"):
+                call, _, told = line.partition("  # ")
+                if told:
+                    self.assertEqual(repr(eval(call, names)), told)
+                    told_here += 1
+                else:
+                    exec(call, names)
+            shown.append(told_here)
+        self.assertEqual(shown, [6, 10])
 
 
 if __name__ == "__main__":
