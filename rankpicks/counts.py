@@ -19,7 +19,7 @@ def greatest_rank(tree, j=1):
 def low_names(tree, j=1):
     """Return an ascending list of the fewest names that make j ends low."""
     check_end(tree, j)
-    return sorted(_fewest(tree)[0][j])
+    return sorted(cheapest(tree, _ones(tree))[0][j])
 
 
 def high_names(tree, j=1):
@@ -33,7 +33,7 @@ def count_table(tree):
     """Return, for each node, how many low leaves it needs for no end, one end, two ends and so on."""
     if not is_tree(tree):
         raise InvalidTree(tree)
-    return [[len(names) for names in lists] for lists in _fewest(tree)]
+    return [[len(names) for names in lists] for lists in cheapest(tree, _ones(tree))]
 
 
 def is_count_table(tree, claim):
@@ -48,17 +48,29 @@ def is_count_table(tree, claim):
     return all([_is_borne_out(node, claim[at:]) for at, node in enumerate(nodes)])
 
 
-def _fewest(tree):
-    """Return, for each node, the lists of the fewest names that make no end low, one end, two ends and so on."""
+def cheapest(tree, prices):
+    """Return, for each node, the lists of names that make no end low, one end, two ends and so on.
+
+    No others have a lower sum of their prices, which is a dict of whole numbers of at least 0.
+    """
     if isinstance(tree, Leaf):
         return [[[], [tree.name]]]
-    within = [_fewest(part) for part in tree.parts]
+    within = [cheapest(part, prices) for part in tree.parts]
     taken = [[]]
     for lists in within:
-        # One more low end never takes fewer leaves, so that no part need have more low ends than are asked for.
-        taken = [min(sums, key=len) for sums in _sums_by_place(taken, lists[0])]
+        # One more low end never costs less, so that no part need have more low ends than are asked for.
+        taken = [_cheapest_of(sums, prices) for sums in _sums_by_place(taken, lists[0])]
     passed = [taken[0]] + [taken[rank] for rank in tree.ranks]
     return [passed] + [node for nodes in within for node in nodes]
+
+
+def _ones(tree):
+    """Return prices with which the cheapest names are the fewest."""
+    return {name: 1 for name in tree.names()}
+
+
+def _cheapest_of(lists, prices):
+    return min(lists, key=lambda names: sum([prices[name] for name in names]))
 
 
 def _sums_by_place(one, other):

@@ -88,35 +88,37 @@ def lot_of(names):
 
 def ends_of(tree, lot):
     """Return the ascending list of the ends of a tree in a lot."""
-    _check_kinds(tree, lot)
-    _check_full(tree, lot)
+    check_kinds(tree, lot)
+    check_full(tree, lot)
     return _outs(tree, lot)[0]
 
 
 def end_of(tree, lot, j=1):
     """Return end j of a tree in a lot."""
-    _check_kinds(tree, lot)
+    check_kinds(tree, lot)
     if not is_end(tree, j):
         raise InvalidNumber(j)
-    _check_full(tree, lot)
+    check_full(tree, lot)
     return _outs(tree, lot)[0][j - 1]
 
 
 def outs_of(tree, lot):
     """Return the list of the ends of each node of a tree in a lot."""
-    _check_kinds(tree, lot)
-    _check_full(tree, lot)
+    check_kinds(tree, lot)
+    check_full(tree, lot)
     return _outs(tree, lot)
 
 
-def _check_kinds(tree, lot):
+def check_kinds(tree, lot):
+    """Raise an error unless the values are a tree and a lot."""
     if not is_tree(tree):
         raise InvalidTree(tree)
     if not is_lot(lot):
         raise InvalidLot(lot)
 
 
-def _check_full(tree, lot):
+def check_full(tree, lot):
+    """Raise an error unless each leaf has a worth."""
     for name in tree.names():
         if name not in lot:
             raise Lacking(name)

@@ -21,10 +21,12 @@ CLASSES = {
     "rankpicks.lots": {"Lot": {"__init__": "(self, pairs=None)", "__len__": "(self)", "drop": "(self, name)",
                                "names": "(self)", "pairs": "(self)", "upto": "(self, worth)",
                                "below": "(self, worth)", "copy": "(self)"}},
+    "rankpicks.towers": {"Tower": {"__init__": "(self, levels)", "mirror": "(self)", "build": "(self, names)"}},
 }
 SIGNS = {"Leaf": ["__contains__", "__eq__"], "Group": ["__contains__", "__eq__", "__getitem__"],
-         "Lot": ["__contains__", "__eq__", "__getitem__", "__setitem__"]}
-PROPERTIES = {"Leaf": ["name", "width"], "Group": ["ranks", "parts", "intake", "width"]}
+         "Lot": ["__contains__", "__eq__", "__getitem__", "__setitem__"], "Tower": ["__eq__", "__mul__"]}
+PROPERTIES = {"Leaf": ["name", "width"], "Group": ["ranks", "parts", "intake", "width"],
+              "Tower": ["levels", "size", "least", "greatest"]}
 FUNCTIONS = {
     "rankpicks.lots": {"lot_of": "(names)", "ends_of": "(tree, lot)", "end_of": "(tree, lot, j=1)",
                        "outs_of": "(tree, lot)"},
@@ -33,10 +35,13 @@ FUNCTIONS = {
     "rankpicks.places": {"rank_span": "(tree, j=1)", "rank_in": "(tree, lot, j=1)", "order_at": "(tree, rank, j=1)"},
     "rankpicks.chances": {"set_counts": "(tree, j=1)", "order_counts": "(tree, j=1)", "mean_rank": "(tree, j=1)"},
     "rankpicks.leaps": {"leap_of": "(tree, name, j=1)", "leap_lots": "(tree, name, j=1)"},
+    "rankpicks.changes": {"fewest": "(tree, lot, bound, j=1, *, up=False, prices=None)"},
+    "rankpicks.compare": {"parting": "(one, other, j=1, k=1)", "alike": "(one, other)", "is_simple": "(tree)",
+                          "normal": "(tree)"},
 }
 
 ALLOWED = """len range enumerate zip min max sum abs sorted reversed int str bool list tuple dict set isinstance ord repr
-any all divmod ValueError TypeError KeyError IndexError LookupError property staticmethod classmethod super""".split()
+any all divmod NotImplemented ValueError TypeError KeyError IndexError LookupError property staticmethod classmethod super""".split()
 SPECIAL = """__init__ __eq__ __len__ __iter__ __contains__ __getitem__ __setitem__ __mul__""".split()
 
 
@@ -128,7 +133,7 @@ class Readme(unittest.TestCase):
                 else:
                     exec(call, names)
             shown.append(told_here)
-        self.assertEqual(shown, [6, 10])
+        self.assertEqual(shown, [6, 10, 11])
 
 
 if __name__ == "__main__":
