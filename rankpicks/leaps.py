@@ -1,9 +1,8 @@
 """By how far one changed worth can move an end."""
 
-from rankpicks.checks import is_name
-from rankpicks.errors import InvalidName, InvalidNumber, InvalidTree, Unknown
+from rankpicks.errors import InvalidNumber, InvalidTree
 from rankpicks.lots import lot_of
-from rankpicks.trees import Leaf, is_end, is_tree
+from rankpicks.trees import Leaf, check_leaf, is_end, is_tree
 
 
 def leap_of(tree, name, j=1):
@@ -27,10 +26,7 @@ def leap_lots(tree, name, j=1):
 def _check(tree, name, j):
     if not is_tree(tree):
         raise InvalidTree(tree)
-    if not is_name(name):
-        raise InvalidName(name)
-    if name not in tree:
-        raise Unknown(name)
+    check_leaf(tree, name)
     if not is_end(tree, j):
         raise InvalidNumber(j)
 

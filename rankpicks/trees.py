@@ -185,6 +185,19 @@ def check_end(tree, j):
         raise InvalidNumber(j)
 
 
+def check_leaf(tree, name):
+    """Raise an error unless the value is the name of a leaf of the tree."""
+    if not is_name(name):
+        raise InvalidName(name)
+    if name not in tree:
+        raise Unknown(name)
+
+
+def low_ends(tree, names):
+    """Return how many ends are low if the leaves with these names are; other names do not matter."""
+    return tree._low_ends(names)
+
+
 def _are_parts(value):
     if not isinstance(value, list) or len(value) == 0:
         return False
@@ -219,10 +232,7 @@ def _is_renaming(tree, pairs):
 
 
 def _check_put(tree, name, other):
-    if not is_name(name):
-        raise InvalidName(name)
-    if name not in tree:
-        raise Unknown(name)
+    check_leaf(tree, name)
     if not is_tree(other) or other.width != 1 or _meets(tree, name, other):
         raise InvalidTree(other)
 

@@ -22,11 +22,17 @@ CLASSES = {
                                "names": "(self)", "pairs": "(self)", "upto": "(self, worth)",
                                "below": "(self, worth)", "copy": "(self)"}},
     "rankpicks.towers": {"Tower": {"__init__": "(self, levels)", "mirror": "(self)", "build": "(self, names)"}},
+    "rankpicks.reports": {"Report": {"__init__": "(self, tree, told)", "upto": "(self, worth)"}},
+    "rankpicks.desks": {"Desk": {"__init__": "(self, tree, lot=None)", "__len__": "(self)", "forget": "(self, name)",
+                                 "between": "(self, j=1)", "matters": "(self, j=1)", "end": "(self, j=1)",
+                                 "what_if": "(self, name, worth, j=1)", "back": "(self)", "copy": "(self)"}},
 }
 SIGNS = {"Leaf": ["__contains__", "__eq__"], "Group": ["__contains__", "__eq__", "__getitem__"],
-         "Lot": ["__contains__", "__eq__", "__getitem__", "__setitem__"], "Tower": ["__eq__", "__mul__"]}
+         "Lot": ["__contains__", "__eq__", "__getitem__", "__setitem__"], "Tower": ["__eq__", "__mul__"],
+         "Desk": ["__contains__", "__getitem__", "__setitem__"]}
 PROPERTIES = {"Leaf": ["name", "width"], "Group": ["ranks", "parts", "intake", "width"],
-              "Tower": ["levels", "size", "least", "greatest"]}
+              "Tower": ["levels", "size", "least", "greatest"], "Report": ["tree", "told"],
+              "Desk": ["tree", "lot", "made"]}
 FUNCTIONS = {
     "rankpicks.lots": {"lot_of": "(names)", "ends_of": "(tree, lot)", "end_of": "(tree, lot, j=1)",
                        "outs_of": "(tree, lot)"},
@@ -38,10 +44,15 @@ FUNCTIONS = {
     "rankpicks.changes": {"fewest": "(tree, lot, bound, j=1, *, up=False, prices=None)"},
     "rankpicks.compare": {"parting": "(one, other, j=1, k=1)", "alike": "(one, other)", "is_simple": "(tree)",
                           "normal": "(tree)"},
+    "rankpicks.reports": {"few_lot": "(report, worth)", "many_lot": "(report, worth)",
+                          "known_counts": "(reports, worth)", "kth": "(reports, rank)"},
+    "rankpicks.partial": {"between": "(tree, lot, j=1)", "matters": "(tree, lot, j=1)", "decides": "(tree, lot, j=1)"},
+    "rankpicks.texts": {"write_tree": "(tree)", "read_tree": "(text)", "write_lot": "(lot)", "read_lot": "(text)"},
 }
 
 ALLOWED = """len range enumerate zip min max sum abs sorted reversed int str bool list tuple dict set isinstance ord repr
-any all divmod NotImplemented ValueError TypeError KeyError IndexError LookupError property staticmethod classmethod super""".split()
+any all divmod NotImplemented ValueError TypeError KeyError IndexError LookupError property staticmethod classmethod
+super""".split()
 SPECIAL = """__init__ __eq__ __len__ __iter__ __contains__ __getitem__ __setitem__ __mul__""".split()
 
 
@@ -133,7 +144,7 @@ class Readme(unittest.TestCase):
                 else:
                     exec(call, names)
             shown.append(told_here)
-        self.assertEqual(shown, [6, 10, 11])
+        self.assertEqual(shown, [6, 10, 11, 16])
 
 
 if __name__ == "__main__":
