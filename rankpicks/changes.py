@@ -35,10 +35,8 @@ def _are_prices(tree, prices):
 
 
 def _all_prices(tree, prices):
-    table = {name: 1 for name in tree.names()}
-    for name, price in [] if prices is None else prices:
-        table[name] = price
-    return table
+    given = {} if prices is None else dict(prices)
+    return {name: given.get(name, 1) for name in tree.names()}
 
 
 def _bringing(tree, j, up, costs):

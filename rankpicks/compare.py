@@ -38,7 +38,7 @@ def is_simple(tree):
 
 def normal(tree):
     """Return the normal form of a simple tree."""
-    if not is_tree(tree) or not is_simple(tree):
+    if not is_simple(tree):
         raise InvalidTree(tree)
     return _normal(tree)
 

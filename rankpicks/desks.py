@@ -29,7 +29,7 @@ class Desk:
     @property
     def lot(self):
         """A lot of the worths that are there."""
-        return self._lot.copy()
+        return Lot(self._lot.pairs())
 
     @property
     def made(self):

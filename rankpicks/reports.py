@@ -19,7 +19,7 @@ class Report:
         self._told = list(told)
         self._fewest = count_table(tree)[0]
         # As few leaves as make the other ends high are left out: those that make them low in the mirror.
-        self._most = [len(tree) - high for high in reversed(count_table(tree.mirror())[0])]
+        self._most = [len(tree) - high for high in count_table(tree.mirror())[0][::-1]]
 
     @property
     def tree(self):
@@ -59,8 +59,7 @@ def many_lot(report, worth):
 def known_counts(reports, worth):
     """Return the tuple of the least and the greatest number of worths behind all reports that can be at most one."""
     _check_list(reports)
-    if not is_whole(worth):
-        raise InvalidNumber(worth)
+    # The first report raises the error for a worth that is none.
     counts = [report.upto(worth) for report in reports]
     return (sum([few for few, many in counts]), sum([many for few, many in counts]))
 
